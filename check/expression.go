@@ -137,7 +137,7 @@ func (c *checker) set(n api.Node) expression {
 
 // element is one of a Set; if it is constant (ok), its bits too.
 func (c *checker) element(n api.Node) (x api.Expr, bits int64, ok bool) {
-	x.Op = api.ESingle
+	x = api.Expr{Op: api.ESingle, Type: api.Set}
 	ends := []api.Node{n}
 	if n.Kind == api.NRange {
 		x.Op = api.ERange

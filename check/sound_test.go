@@ -218,7 +218,7 @@ func (s *soundness) hasField(record int, x api.Expr) bool {
 
 func (s *soundness) elements(l []api.Expr) bool {
 	for _, e := range l {
-		if e.M != 0 || e.N != 0 || e.Op == api.ESingle && len(e.Kids) != 1 || e.Op == api.ERange && len(e.Kids) != 2 || e.Op != api.ESingle && e.Op != api.ERange {
+		if e.Type != api.Set || e.M != 0 || e.N != 0 || e.Op == api.ESingle && len(e.Kids) != 1 || e.Op == api.ERange && len(e.Kids) != 2 || e.Op != api.ESingle && e.Op != api.ERange {
 			return false
 		}
 		for _, k := range e.Kids {
