@@ -192,6 +192,33 @@ func TestParameters(t *testing.T) { // P15.3: which are the argument's variable 
 	}
 }
 
+func TestManyParametersAndVariables(t *testing.T) { // P15.3: as many as there may be, of one module and of another; long open arrays
+	var params, args, sum []string
+	for i := range api.MaxParams {
+		name := string(rune('a' + i))
+		params = append(params, name)
+		args = append(args, []string{"v", "w", "u", "x[i]"}[i%4])
+		sum = append(sum, name+"["+strconv.Itoa(i)+"] * LEN("+name+")")
+	}
+	head := "PROCEDURE A*(VAR " + strings.Join(params[:4], ", ") + ": ARRAY OF INTEGER; " + strings.Join(params[4:], ", ") + ": ARRAY OF INTEGER): INTEGER; BEGIN INC(d[LEN(d) - 1]) RETURN " + strings.Join(sum, " + ") + " END A;"
+	vars := "VAR i: INTEGER; v: ARRAY 9 OF INTEGER; w: ARRAY 300 OF INTEGER; u: ARRAY 4096 OF INTEGER; x: ARRAY 3 OF ARRAY 257 OF INTEGER; "
+	do := "BEGIN i := 1; FOR i := 0 TO 8 DO v[i] := i; w[i] := 10 * i; u[i] := 100 * i; x[1][i] := 1000 * i END; i := 1; i := "
+	const rest = "(" + "); ASSERT(i = 0*9 + 10*300 + 200*4096 + 3000*257 + 4*9 + 50*300 + 600*4096 + 7000*257); ASSERT(x[1][256] = 1); EMIT(\"k\")"
+	call := strings.Replace(rest, "()", "("+strings.Join(args, ", ")+")", 1)
+	does(t, "own", alone(t, vars+head+do+"A"+call), "", "k", halt())
+	l := checked(t, "MODULE L; "+head+" END L.")
+	does(t, "another's", []api.Mod{l, checked(t, "MODULE M; IMPORT L; "+vars+do+"L.A"+call+" END M.", l)}, "", "k", halt())
+	const on = "VAR s: ARRAY 600 OF CHAR; PROCEDURE B(VAR a: ARRAY OF CHAR; i: INTEGER); BEGIN ASSERT(LEN(a) = 600); a[i] := \"k\" END B; PROCEDURE A(VAR a: ARRAY OF CHAR; i: INTEGER); BEGIN B(a, i) END A; "
+	does(t, "handed on", alone(t, on+"BEGIN A(s, 599); EMIT(s[599]); A(s, 600)"), "", "k", trapped(api.TrapIndex))
+	var names, set, ask []string
+	for i := range api.MaxVars - 1 {
+		names = append(names, "v"+strconv.Itoa(i))
+		set, ask = append(set, names[i]+" := "+strconv.Itoa(i+1)), append(ask, "ASSERT("+names[i]+" = "+strconv.Itoa(i+1)+")")
+	}
+	many := "PROCEDURE A(p: INTEGER); VAR " + strings.Join(names, ", ") + ": INTEGER; BEGIN ASSERT(v0 + v198 = 0); " + strings.Join(set, "; ") + "; IF p > 0 THEN A(p - 1) END; " + strings.Join(ask, "; ") + "; EMIT(CHR(48 + p)) END A; BEGIN A(3)"
+	does(t, "200 variables", alone(t, many), "", "0123", halt())
+}
+
 func TestResults(t *testing.T) { // P15.3: ECall is its Value, behind its Body; of a BYTE its lowest byte
 	for _, x := range []struct{ proc, s, out string }{
 		{"PROCEDURE A(n: INTEGER): BYTE; RETURN n END A;", "ASSERT(A(511) = 255); ASSERT(A(-1) = 255); ASSERT(A(256) = 0); ASSERT(A(7) = 7)", ""},
@@ -251,6 +278,9 @@ func TestLoops(t *testing.T) { // P15.3: SIf, SWhile, SRepeat, SFor
 		{"FOR i := 3 TO 3 BY -5 DO EMIT(\"x\") END; ASSERT(i = -2)", "x"},
 		{"FOR i := 0 TO 7 BY 3 DO EMIT(CHR(48 + i)) END; ASSERT(i = 9)", "036"},
 		{"j := 3; FOR i := 0 TO j DO EMIT(CHR(48 + i)); j := 9 END", "0123"},
+		{"j := 70002; FOR i := 70000 TO j DO EMIT(CHR(i - 70000 + 48)) END; ASSERT(i = 70003)", "012"},
+		{"j := -300; FOR i := -302 TO j DO EMIT(CHR(i + 350)) END; FOR i := -298 TO j BY -1 DO EMIT(\"x\") END; ASSERT(i = -301)", "012xxx"},
+		{"FOR i := -70001 TO -70000 DO EMIT(\"x\") END; FOR i := 70000 TO -70000 BY -70000 DO EMIT(\"y\") END; ASSERT(i = -140000)", "xxyyy"},
 		{"FOR i := 0 TO 9 DO EMIT(CHR(48 + i)); i := i * 2 END; ASSERT(i = 15)", "0137"},
 		{"FOR i := 2147483646 TO 2147483647 DO EMIT(\"x\"); IF i = 2147483647 THEN b := TRUE; HALT END END", "xx"},
 		{"FOR i := 2147483647 TO 2147483647 DO INC(j); EMIT(\"x\"); IF j = 2 THEN ASSERT(i = -2147483647 - 1); HALT END END", "xx"},

@@ -235,6 +235,14 @@ func TestModsWithinThemselves(t *testing.T) { // lists that have themselves with
 	}
 	m.Init = append(blocks, api.Stat{Op: api.SCall, Exprs: []api.Expr{shared}})
 	judged(t, m)
+	truth := api.Expr{Op: api.ELit, Type: api.Boolean, N: 1}
+	for range 60 { // nothing is made of it, however often it is looked at
+		truth = api.Expr{Op: api.EAnd, Type: api.Boolean, Kids: []api.Expr{truth, truth}}
+	}
+	m.Init = []api.Stat{{Op: api.SIf, Exprs: []api.Expr{truth}, Blocks: make([][]api.Stat, 1)}}
+	if !judged(t, m) {
+		t.Error("more than 2^60 parts")
+	}
 }
 
 func TestGreatMods(t *testing.T) { // P15.2, R1: long lists
