@@ -161,7 +161,7 @@ func chanceInput(r *rand.Rand) string {
 func TestByChance(t *testing.T) { // P15.3
 	ends := map[api.End]int{}
 	r := rand.New(rand.NewSource(15))
-	for s, mods := range chanceMods(t, r, 600) {
+	for s, mods := range chanceMods(t, r, 450) {
 		fuel := []int64{int64(r.Intn(300)), int64(r.Intn(5000)), 30000, 100000}[r.Intn(4)]
 		ends[agrees(t, s, mods, chanceInput(r), fuel).end]++
 		if t.Failed() {

@@ -81,6 +81,7 @@ func TestSets(t *testing.T) { // P15.3: of SETs' bits
 		"i := 0; j := 31; ASSERT({i..j} = -{}); ASSERT({j} = {31}); ASSERT({i} = {0})",
 		"e := {31}; ASSERT(ORD(e) = -2147483647 - 1); e := {0, 4}; ASSERT(ORD(e) = 17); e := {}; ASSERT(ORD(e) = 0)",
 		"e := {3}; i := 3; ASSERT(i IN e); i := 4; ASSERT(~(i IN e)); i := 31; ASSERT(~(i IN e)); ASSERT(i IN -e); y := 3; ASSERT(y IN e)",
+		"i := 3; ASSERT(i IN {3}); ASSERT(~(i IN {2})); ASSERT(~(i IN {0, 1, 4})); ASSERT(i IN {1..30}); ASSERT(~(i IN {31})); ASSERT(~(i IN {})); f := {2, 20, 31}; ASSERT(2 IN f); ASSERT(20 IN f); ASSERT(31 IN f); ASSERT(~(0 IN f)); ASSERT(~(16 IN f))",
 		"i := 31; INCL(e, i); ASSERT(e = {31}); INCL(e, 0); INCL(e, 0); ASSERT(e = {0, 31}); EXCL(e, i); ASSERT(e = {0}); EXCL(e, 5); ASSERT(e = {0})",
 		"NEW(q); INCL(q.z, 7); y := 8; INCL(q.z, y); ASSERT(q.z = {7, 8})",
 	} {
