@@ -1,12 +1,14 @@
 package gen
 
 import (
+	"slices"
 	"strings"
 	"testing"
 
 	"carrel/api"
 	"carrel/check"
 	"carrel/disk"
+	linker "carrel/link"
 	"carrel/mach"
 	"carrel/obj"
 	"carrel/sem"
@@ -290,6 +292,9 @@ func bootStart(l []api.Object) func(layout) []uint32 {
 func machine(t testing.TB, l []api.Object, input string) (*mach.Machine, layout) {
 	t.Helper()
 	image, x := laid(t, l, bootStart(l))
+	if booted, name, e := linker.Boot(l); e != api.OK || booted.Entry != image.Entry || !slices.Equal(booted.Words, image.Words) {
+		t.Fatalf("link.Boot: %q, %v, or another image", name, e)
+	}
 	return started(t, image, x, input), x
 }
 
